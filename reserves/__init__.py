@@ -1,0 +1,1 @@
+"""Reserves: capacity bought, then called."""

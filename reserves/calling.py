@@ -1,0 +1,59 @@
+"""A quarter: where the units stand for a target, its price, and what they are paid."""
+
+from reserves.standing import highest_place, lowest_place
+
+
+class Quarter:
+    """A quarter with its target; places and payments are in the order of the units."""
+
+    def __init__(self, target, places, price, payments):
+        self.target = target
+        self.places = places
+        self.price = price
+        self.payments = payments
+        self.called = sum(places)
+        self.cost = sum(payments)
+
+
+def quarter_for(units, target):
+    """The quarter as it would be if it came next; the units stay where they stand."""
+    lows = [lowest_place(unit) for unit in units]
+    highs = [highest_place(unit) for unit in units]
+    energies = [unit.offer.energy for unit in units]
+    places = list(lows)
+    price = price_at_lowest(lows, highs, energies)
+    missing = target - sum(lows)
+    for position in by_energy(energies):
+        step = min(missing, highs[position] - lows[position])
+        if step > 0:
+            places[position] += step
+            missing -= step
+            price = energies[position]
+    payments = [payment(place, energy, price) for place, energy in zip(places, energies)]
+    return Quarter(target, places, price, payments)
+
+
+def price_at_lowest(lows, highs, energies):
+    """The price if no unit is raised."""
+    movable = [energy for low, high, energy in zip(lows, highs, energies) if low < high]
+    return min(movable, default=0)
+
+
+def by_energy(energies):
+    """The positions, least energy price first, of equal prices the earlier first."""
+    return sorted(range(len(energies)), key=lambda position: (energies[position], position))
+
+
+def payment(place, energy, price):
+    # A ramp can hold a unit where the price alone wouldn't pay for it: then its own price counts.
+    if place > 0 and energy > price:
+        return place * energy
+    if place < 0 and energy < price:
+        return place * energy
+    return place * price
+
+
+def stand(units, quarter):
+    """Puts the units where they stand in that quarter."""
+    for unit, place in zip(units, quarter.places):
+        unit.place = place

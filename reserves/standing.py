@@ -1,0 +1,29 @@
+"""A unit: what was bought of an offer, and the places where it can stand."""
+
+
+class Unit:
+    """A unit as it is just after buying: all that was taken is left, and it stands at 0."""
+
+    def __init__(self, offer, taken):
+        self.offer = offer
+        self.taken = taken
+        self.left = taken
+        self.place = 0
+
+
+def nearest(unit):
+    """How near to 0 the unit can stand next quarter."""
+    return min(max(abs(unit.place) - unit.offer.ramp, 0), unit.left)
+
+
+def farthest(unit):
+    """How far from 0 the unit can stand next quarter."""
+    return min(abs(unit.place) + unit.offer.ramp, unit.left)
+
+
+def lowest_place(unit):
+    return nearest(unit) if unit.offer.direction == 0 else -farthest(unit)
+
+
+def highest_place(unit):
+    return farthest(unit) if unit.offer.direction == 0 else -nearest(unit)
