@@ -1,9 +1,8 @@
 """The best buy of one direction, and what any other buy of it costs."""
 
 
+# Some of the whole offers, told by their positions, the others left out.
 class Choice:
-    """Some of the whole offers, told by their positions, the others left out."""
-
     def __init__(self, positions, amount, cost):
         self.positions = positions
         self.amount = amount
@@ -27,8 +26,8 @@ def covers(amounts, need):
     return sum(amounts) >= need
 
 
+# The amount bought of each offer; the offers are all of one direction, in order of entry.
 def best_buy(offers, need):
-    """The amount bought of each offer; the offers are all of one direction, in order of entry."""
     full = [offer.amount for offer in offers]
     if not covers(full, need):
         return full
@@ -42,14 +41,14 @@ def best_buy(offers, need):
     return max([amounts_of(offers, ladder, choice, need) for choice in ties])
 
 
+# The positions of the offers that aren't whole, cheapest first, of equal prices the earlier first.
 def partible_by_price(offers):
-    """The positions of the offers that aren't whole, cheapest first, of equal prices the earlier first."""
     positions = [position for position, offer in enumerate(offers) if not offer.whole]
     return sorted(positions, key=lambda position: (offers[position].capacity, position))
 
 
+# Every choice of whole offers: at most 256, as there are at most 8 of a direction.
 def whole_choices(offers):
-    """Every choice of whole offers: at most 256, as there are at most 8 of a direction."""
     choices = [Choice((), 0, 0)]
     for position, offer in enumerate(offers):
         if offer.whole:
@@ -62,8 +61,8 @@ def with_whole(choice, position, offer):
     return Choice(choice.positions + (position,), choice.amount + offer.amount, cost)
 
 
+# Cost and sum of amounts of the best buy with this choice: the less the better.
 def rank_of(offers, ladder, choice, need):
-    """Cost and sum of amounts of the best buy with this choice: the less the better."""
     cost = choice.cost
     missing = need - choice.amount
     for position in ladder:

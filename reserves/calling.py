@@ -3,9 +3,8 @@
 from reserves.standing import highest_place, lowest_place
 
 
+# A quarter with its target; places and payments are in the order of the units.
 class Quarter:
-    """A quarter with its target; places and payments are in the order of the units."""
-
     def __init__(self, target, places, price, payments):
         self.target = target
         self.places = places
@@ -15,8 +14,8 @@ class Quarter:
         self.cost = sum(payments)
 
 
+# The quarter as it would be if it came next; the units stay where they stand.
 def quarter_for(units, target):
-    """The quarter as it would be if it came next; the units stay where they stand."""
     lows = [lowest_place(unit) for unit in units]
     highs = [highest_place(unit) for unit in units]
     energies = [unit.offer.energy for unit in units]
@@ -33,14 +32,14 @@ def quarter_for(units, target):
     return Quarter(target, places, price, payments)
 
 
+# The price if no unit is raised.
 def price_at_lowest(lows, highs, energies):
-    """The price if no unit is raised."""
     movable = [energy for low, high, energy in zip(lows, highs, energies) if low < high]
     return min(movable, default=0)
 
 
+# The positions, least energy price first, of equal prices the earlier first.
 def by_energy(energies):
-    """The positions, least energy price first, of equal prices the earlier first."""
     return sorted(range(len(energies)), key=lambda position: (energies[position], position))
 
 
@@ -53,7 +52,7 @@ def payment(place, energy, price):
     return place * price
 
 
+# Puts the units where they stand in that quarter.
 def stand(units, quarter):
-    """Puts the units where they stand in that quarter."""
     for unit, place in zip(units, quarter.places):
         unit.place = place

@@ -15,9 +15,8 @@ BEFORE = (1, 2, 3, 4)
 AFTER = (5, 6, 7, 9)
 
 
+# What the calls of one list work on; needs are told by direction.
 class Desk:
-    """What the calls of one list work on; needs are told by direction."""
-
     def __init__(self):
         self.begun = False
         self.reset(0, 0)
@@ -31,8 +30,8 @@ class Desk:
         self.quarters = []
 
 
+# For each call how many numbers are answered, then these numbers.
 def answers(calls):
-    """For each call how many numbers are answered, then these numbers."""
     desk = Desk()
     told = []
     for call in read_calls(calls):

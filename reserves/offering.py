@@ -1,9 +1,8 @@
 """An offer of capacity, and the offers of one direction."""
 
 
+# Capacity that can be bought: direction 0 is up, 1 is down.
 class Offer:
-    """Capacity that can be bought: direction 0 is up, 1 is down."""
-
     def __init__(self, number, direction, amount, capacity, energy, ramp, whole):
         self.number = number
         self.direction = direction

@@ -32,9 +32,8 @@ ROWS = {
 }
 
 
+# A call as it was handed in; a call that has no row has an empty one here.
 class Call:
-    """A call as it was handed in; a call that has no row has an empty one here."""
-
     def __init__(self, kind, numbers, row):
         self.kind = kind
         self.numbers = numbers

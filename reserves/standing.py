@@ -1,9 +1,8 @@
 """A unit: what was bought of an offer, and the places where it can stand."""
 
 
+# A unit as it is just after buying: all that was taken is left, and it stands at 0.
 class Unit:
-    """A unit as it is just after buying: all that was taken is left, and it stands at 0."""
-
     def __init__(self, offer, taken):
         self.offer = offer
         self.taken = taken
@@ -11,13 +10,13 @@ class Unit:
         self.place = 0
 
 
+# How near to 0 the unit can stand next quarter.
 def nearest(unit):
-    """How near to 0 the unit can stand next quarter."""
     return min(max(abs(unit.place) - unit.offer.ramp, 0), unit.left)
 
 
+# How far from 0 the unit can stand next quarter.
 def farthest(unit):
-    """How far from 0 the unit can stand next quarter."""
     return min(abs(unit.place) + unit.offer.ramp, unit.left)
 
 

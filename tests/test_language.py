@@ -68,6 +68,8 @@ class Language(unittest.TestCase):
                 if isinstance(node, ast.FunctionDef):
                     self.assertLessEqual(node.end_lineno - node.lineno + 1, 40, where)
                     self.assertEqual(node.decorator_list, [], where)
+                if isinstance(node, ast.Expr) and node != tree.body[0]:
+                    self.assertIsInstance(node.value, ast.Call, where)
                 if isinstance(node, (ast.For, ast.While)):
                     self.assertEqual(node.orelse, [], where)
                 if isinstance(node, ast.Assign):

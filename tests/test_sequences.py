@@ -50,8 +50,9 @@ class Reading(unittest.TestCase):
 
 class NothingKept(unittest.TestCase):
     def setUp(self):
-        self.calls = line([(OPEN, 9, 4), up(8, 3, 20, 2), down(6, 2, 10, 3, 1), up(7, 1, 30), (VALUE, 0, [5, 4]), (BUY,),
-                           (AGAIN,), up(2, 0, 5), (BUY,), (BOUGHT, 0), (CALL, 5), (CALL, -3), (TAKEN, 2), (AGAIN,)])
+        self.calls = line([(OPEN, 9, 4), up(8, 3, 20, 2), down(6, 2, 10, 3, 1), up(7, 1, 30), (VALUE, 0, [5, 4]),
+                           (BUY,), (AGAIN,), up(2, 0, 5), (BUY,), (BOUGHT, 0), (CALL, 5), (CALL, -3), (TAKEN, 2),
+                           (AGAIN,)])
 
     def test_what_is_handed_in_is_the_same_afterwards(self):
         before = copy.deepcopy(self.calls)
