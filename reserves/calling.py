@@ -1,6 +1,6 @@
 """A quarter: where the units stand for a target, its price, and what they are paid."""
 
-from reserves.standing import highest_place, lowest_place
+from reserves.standing import copy_of, highest_place, lowest_place
 
 
 # A quarter with its target; places and payments are in the order of the units.
@@ -52,7 +52,20 @@ def payment(place, energy, price):
     return place * price
 
 
-# Puts the units where they stand in that quarter.
+# Puts the units where they stand in that quarter, and adds up what they are paid.
 def stand(units, quarter):
-    for unit, place in zip(units, quarter.places):
+    for unit, place, paid in zip(units, quarter.places, quarter.payments):
         unit.place = place
+        unit.place_sum += place
+        unit.paid += paid
+
+
+# The quarters as they would be if these targets came one after another; the units stay as they are.
+def foreseen(units, targets):
+    twins = [copy_of(unit) for unit in units]
+    quarters = []
+    for target in targets:
+        quarter = quarter_for(twins, target)
+        stand(twins, quarter)
+        quarters.append(quarter)
+    return quarters

@@ -1,10 +1,10 @@
 """The desk: offers and needs, buying, and the quarters that are called."""
 
 from reserves.buying import best_buy, cost_of, covers, is_buy
-from reserves.calling import quarter_for, stand
+from reserves.calling import by_energy, foreseen, quarter_for, stand
 from reserves.offering import Offer, offers_of
 from reserves.reading import is_in_range, read_calls
-from reserves.standing import Unit
+from reserves.standing import Unit, can_stand_at, highest_after, highest_place, lowest_after, lowest_place
 
 MOST_OFFERS = 24
 MOST_WHOLE = 8
@@ -12,7 +12,7 @@ MOST_QUARTERS = 96
 
 # Calls that are refused once it has been bought, and calls that are refused until then.
 BEFORE = (1, 2, 3, 4)
-AFTER = (5, 6, 7, 9)
+AFTER = (5, 6, 7, 9, 10, 11, 12, 13, 14, 15, 16, 17, 18)
 
 
 # What the calls of one list work on; needs are told by direction.
@@ -42,7 +42,7 @@ def answers(calls):
 
 
 def answer_of(desk, call):
-    if call.kind not in HANDLERS or not is_in_range(call):
+    if not is_in_range(call):
         return [-1]
     if call.kind != 0 and not desk.begun:
         return [-2]
@@ -150,7 +150,86 @@ def call_quarter(desk, numbers, row):
     quarter = quarter_for(desk.units, numbers[0])
     stand(desk.units, quarter)
     desk.quarters.append(quarter)
-    return [0, quarter.called, quarter.price, quarter.cost]
+    return [0] + outcome(quarter)
+
+
+# What a quarter came to, as call, foresee and quarter tell it.
+def outcome(quarter):
+    return [quarter.called, quarter.price, quarter.cost]
+
+
+def foresee(desk, numbers, row):
+    if len(desk.quarters) + len(row) > MOST_QUARTERS:
+        return [-4]
+    told = [0]
+    for quarter in foreseen(desk.units, row):
+        told.extend(outcome(quarter))
+    return told
+
+
+def tell_unit(desk, numbers, row):
+    unit = find_unit(desk.units, numbers[0])
+    if unit is None:
+        return [-4]
+    places = [unit.place, lowest_place(unit), highest_place(unit)]
+    return [0, unit.taken, unit.left] + places + [unit.place_sum, unit.paid]
+
+
+def set_left(desk, numbers, row):
+    unit = find_unit(desk.units, numbers[0])
+    if unit is None:
+        return [-4]
+    if numbers[1] > unit.taken:
+        return [-5]
+    before = unit.left
+    unit.left = numbers[1]
+    return [0, before]
+
+
+def tell_reach(desk, numbers, row):
+    least = sum([lowest_after(unit, numbers[0]) for unit in desk.units])
+    greatest = sum([highest_after(unit, numbers[0]) for unit in desk.units])
+    return [0, least, greatest]
+
+
+def tell_ladder(desk, numbers, row):
+    offers = [unit.offer for unit in desk.units if unit.left > 0]
+    positions = by_energy([offer.energy for offer in offers])
+    return [0] + [offers[position].number for position in positions]
+
+
+def tell_places(desk, numbers, row):
+    return [0] + [unit.place for unit in desk.units]
+
+
+def try_places(desk, numbers, row):
+    if len(row) != len(desk.units):
+        return [-4]
+    if not all([can_stand_at(unit, place) for unit, place in zip(desk.units, row)]):
+        return [-5]
+    worth = sum([place * unit.offer.energy for unit, place in zip(desk.units, row)])
+    return [0, sum(row), worth]
+
+
+def tell_quarter(desk, numbers, row):
+    if len(desk.quarters) < numbers[0]:
+        return [-4]
+    quarter = desk.quarters[numbers[0] - 1]
+    return [0, quarter.target] + outcome(quarter)
+
+
+def tell_costs(desk, numbers, row):
+    capacity = sum([unit.taken * unit.offer.capacity for unit in desk.units])
+    energy = sum([unit.paid for unit in desk.units])
+    return [0, capacity, energy]
+
+
+def tell_book(desk, numbers, row):
+    told = [0] + desk.needs + [1 if desk.has_bought else 0]
+    for offer in desk.offers:
+        told.extend([offer.number, offer.direction, offer.amount, offer.capacity, offer.energy, offer.ramp])
+        told.append(1 if offer.whole else 0)
+    return told
 
 
 HANDLERS = {
@@ -164,4 +243,14 @@ HANDLERS = {
     7: tell_bought,
     8: tell_value,
     9: call_quarter,
+    10: foresee,
+    11: tell_unit,
+    12: set_left,
+    13: tell_reach,
+    14: tell_ladder,
+    15: tell_places,
+    16: try_places,
+    17: tell_quarter,
+    18: tell_costs,
+    19: tell_book,
 }

@@ -6,7 +6,6 @@ import random
 import unittest
 
 from reserves.desk import answers
-from reserves.reading import is_in_range, read_calls
 from tests.lines import (AGAIN, AVAIL, BIG, BOOK, BOUGHT, BUY, CALL, COSTS, FORESEE, LADDER, NEED, OFFER, OPEN,
                          PLACES, QUARTER, REACH, TAKEN, TRY, UNIT, VALUE, WITHDRAW, ask, down, line, parted, up)
 
@@ -31,17 +30,10 @@ class Reading(unittest.TestCase):
         calls = line([(OPEN, 3, 1), up(5, 2, 9), down(4, 1, 8, whole=1), (BUY,), (BOUGHT, 0), (CALL, 2), (BUY,)])
         self.assertEqual(answers(calls), [1, 0, 2, 0, 1, 2, 0, 2, 4, 0, 0, 3, 10, 2, 0, 3, 4, 0, 2, 9, 18, 1, -3])
 
-    def test_ranges_of_the_calls_yet_to_come(self):
-        target, place = 10 ** 11, 10 ** 9
-        inside = [(FORESEE, []), (FORESEE, [0] * 96), (FORESEE, [-target, target]), (UNIT, -BIG), (UNIT, BIG),
-                  (AVAIL, -BIG, 0), (AVAIL, BIG, 10 ** 9), (REACH, 1), (REACH, 1000), (LADDER,), (PLACES,),
-                  (TRY, []), (TRY, [0] * 24), (TRY, [-place, place]), (QUARTER, 1), (QUARTER, 96), (COSTS,), (BOOK,)]
-        beyond = [(FORESEE, [0] * 97), (FORESEE, [0, -target - 1]), (FORESEE, [target + 1]), (UNIT, -BIG - 1),
-                  (UNIT, BIG + 1), (AVAIL, -BIG - 1, 0), (AVAIL, BIG + 1, 0), (AVAIL, 1, -1), (AVAIL, 1, 10 ** 9 + 1),
-                  (REACH, 0), (REACH, 1001), (TRY, [0] * 25), (TRY, [0, -place - 1]), (TRY, [place + 1]),
-                  (QUARTER, 0), (QUARTER, 97), (20,), (-1,)]
-        self.assertEqual([is_in_range(call) for call in read_calls(line(inside))], [True] * len(inside))
-        self.assertEqual([is_in_range(call) for call in read_calls(line(beyond))], [False] * len(beyond))
+    def test_no_such_call(self):
+        for kind in (20, -1, BIG):
+            self.assertEqual(answers([kind]), [1, -1])
+            self.assertEqual(ask((OPEN, 0, 0), (kind,), (BUY,), (kind,)), [[0], [-1], [0, 0, 0, 0], [-1]])
 
     def test_four_hundred_calls(self):
         told = ask((OPEN, 0, 0), *[(VALUE, 0, [0] * 100)] * 150, *[(NEED, 0, 1)] * 249)
@@ -51,8 +43,9 @@ class Reading(unittest.TestCase):
 class NothingKept(unittest.TestCase):
     def setUp(self):
         self.calls = line([(OPEN, 9, 4), up(8, 3, 20, 2), down(6, 2, 10, 3, 1), up(7, 1, 30), (VALUE, 0, [5, 4]),
-                           (BUY,), (AGAIN,), up(2, 0, 5), (BUY,), (BOUGHT, 0), (CALL, 5), (CALL, -3), (TAKEN, 2),
-                           (AGAIN,)])
+                           (BUY,), (AGAIN,), up(2, 0, 5), (BUY,), (BOUGHT, 0), (FORESEE, [4, -4]), (CALL, 5),
+                           (AVAIL, 3, 2), (CALL, -3), (TAKEN, 2), (UNIT, 3), (REACH, 4), (LADDER,), (PLACES,),
+                           (TRY, [0, -6, 2, 0]), (QUARTER, 1), (COSTS,), (BOOK,), (AGAIN,)])
 
     def test_what_is_handed_in_is_the_same_afterwards(self):
         before = copy.deepcopy(self.calls)
@@ -81,6 +74,7 @@ class NothingKept(unittest.TestCase):
         self.assertEqual({type(number) for number in told}, {int})
 
 
+# Of each number of a call the least and the greatest; of a row its length at most, and the same.
 RANGES = {
     OPEN: [(0, 10 ** 11)] * 2,
     OFFER: [(0, 1), (1, 10 ** 9), (0, 10 ** 6), (-10 ** 6, 10 ** 6), (1, 10 ** 9), (0, 1)],
@@ -90,37 +84,50 @@ RANGES = {
     BOUGHT: [(0, 1)],
     VALUE: [(0, 1)],
     CALL: [(-10 ** 11, 10 ** 11)],
+    UNIT: [(-BIG, BIG)],
+    AVAIL: [(-BIG, BIG), (0, 10 ** 9)],
+    REACH: [(1, 1000)],
+    QUARTER: [(1, 96)],
 }
+ROWS = {VALUE: (24, 0, 10 ** 9), FORESEE: (96, -10 ** 11, 10 ** 11), TRY: (24, -10 ** 9, 10 ** 9)}
+BEFORE = (OFFER, WITHDRAW, NEED, BUY)
+AFTER = (AGAIN, TAKEN, BOUGHT, CALL, FORESEE, UNIT, AVAIL, REACH, LADDER, PLACES, TRY, QUARTER, COSTS)
 
 
 class Model:
-    """The ten calls as the words tell them, by search and step by step, for small numbers alone."""
+    """The twenty calls as the words tell them, by search and step by step, for small numbers alone."""
 
     def __init__(self):
         self.needs = None
+        self.taken = None
 
     def answer(self, call):
         kind = call[0]
-        row = call[-1] if kind == VALUE else []
         for number, (least, greatest) in zip(call[1:], RANGES.get(kind, [])):
             if not least <= number <= greatest:
                 return [-1]
-        if len(row) > 24 or any(not 0 <= number <= 10 ** 9 for number in row):
-            return [-1]
+        if kind in ROWS:
+            most, least, greatest = ROWS[kind]
+            if len(call[-1]) > most or any(not least <= number <= greatest for number in call[-1]):
+                return [-1]
         if kind == OPEN:
             self.needs, self.offers, self.given = list(call[1:]), [], 0
-            self.taken, self.quarters = None, 0
+            self.taken, self.log = None, []
             return [0]
         if self.needs is None:
             return [-2]
-        if kind in (OFFER, WITHDRAW, NEED, BUY) and self.taken is not None:
-            return [-3]
-        if kind in (AGAIN, TAKEN, BOUGHT, CALL) and self.taken is None:
+        if self.taken is not None and kind in BEFORE or self.taken is None and kind in AFTER:
             return [-3]
         return getattr(self, "call_%d" % kind)(*call[1:])
 
     def side(self, direction):
         return [offer for offer in self.offers if offer[1] == direction]
+
+    def ways(self, offer):
+        """All places where the unit of that offer can stand next quarter, in order."""
+        stand, left, ramp = abs(self.places[offer[0]]), self.left[offer[0]], offer[5]
+        fewest, most = min(max(stand - ramp, 0), left), min(stand + ramp, left)
+        return sorted(-s if offer[1] else s for s in range(fewest, most + 1))
 
     def call_1(self, direction, q, capacity, energy, ramp, whole):
         if len(self.offers) == 24:
@@ -142,7 +149,7 @@ class Model:
         return [0]
 
     def call_4(self):
-        self.taken, self.places = {}, {}
+        self.taken = {}
         beyond, cost = [], 0
         for direction in (0, 1):
             side = self.side(direction)
@@ -153,11 +160,13 @@ class Model:
             beyond.append(sum(best) - self.needs[direction])
             cost += sum(a * offer[3] for a, offer in zip(best, side))
             self.taken.update({offer[0]: a for offer, a in zip(side, best)})
+        self.left = dict(self.taken)
         self.places = dict.fromkeys(self.taken, 0)
+        self.capacity_cost = cost
         return [0] + beyond + [cost]
 
     def call_5(self):
-        if self.quarters:
+        if self.log:
             return [-4]
         self.taken = None
         return [0]
@@ -180,28 +189,79 @@ class Model:
         return [0, sum(amount * offer[3] for amount, offer in zip(row, side))]
 
     def call_9(self, target):
-        if self.quarters == 96:
+        if len(self.log) == 96:
             return [-4]
-        self.quarters += 1
-        low, high = {}, {}
-        for number, direction, q, capacity, energy, ramp, whole in self.offers:
-            stand, left = abs(self.places[number]), self.taken[number]
-            ends = [min(max(stand - ramp, 0), left), min(stand + ramp, left)]
-            low[number], high[number] = ends if direction == 0 else [-ends[1], -ends[0]]
-        price = min([offer[4] for offer in self.offers if low[offer[0]] < high[offer[0]]], default=0)
-        self.places = dict(low)
+        ways = {offer[0]: self.ways(offer) for offer in self.offers}
+        price = min([offer[4] for offer in self.offers if len(ways[offer[0]]) > 1], default=0)
+        self.places = {number: places[0] for number, places in ways.items()}
         while sum(self.places.values()) < target:
-            room = [(offer[4], offer[0]) for offer in self.offers if self.places[offer[0]] < high[offer[0]]]
+            room = [(offer[4], offer[0]) for offer in self.offers if self.places[offer[0]] < ways[offer[0]][-1]]
             if not room:
                 break
             price, number = min(room)
             self.places[number] += 1
-        cost = 0
+        paid = {}
         for offer in self.offers:
             place = self.places[offer[0]]
             own = place > 0 and offer[4] > price or place < 0 and offer[4] < price
-            cost += place * (offer[4] if own else price)
-        return [0, sum(self.places.values()), price, cost]
+            paid[offer[0]] = place * (offer[4] if own else price)
+        outcome = [sum(self.places.values()), price, sum(paid.values())]
+        self.log.append((target, outcome, self.places.copy(), paid))
+        return [0] + outcome
+
+    def call_10(self, targets):
+        if len(self.log) + len(targets) > 96:
+            return [-4]
+        other = copy.deepcopy(self)
+        return [0] + [number for target in targets for number in other.call_9(target)[1:]]
+
+    def call_11(self, number):
+        if number not in self.taken:
+            return [-4]
+        ways = self.ways([offer for offer in self.offers if offer[0] == number][0])
+        return [0, self.taken[number], self.left[number], self.places[number], ways[0], ways[-1],
+                sum(entry[2][number] for entry in self.log), sum(entry[3][number] for entry in self.log)]
+
+    def call_12(self, number, q):
+        if number not in self.taken:
+            return [-4]
+        if q > self.taken[number]:
+            return [-5]
+        before, self.left[number] = self.left[number], q
+        return [0, before]
+
+    def call_13(self, k):
+        ends = []
+        for at in (0, -1):
+            other = copy.deepcopy(self)
+            for quarter in range(k):
+                other.places = {offer[0]: other.ways(offer)[at] for offer in other.offers}
+            ends.append(sum(other.places.values()))
+        return [0] + ends
+
+    def call_14(self):
+        return [0] + [number for energy, number in sorted((offer[4], offer[0]) for offer in self.offers
+                                                          if self.left[offer[0]])]
+
+    def call_15(self):
+        return [0] + [self.places[offer[0]] for offer in self.offers]
+
+    def call_16(self, row):
+        if len(row) != len(self.offers):
+            return [-4]
+        if any(place not in self.ways(offer) for place, offer in zip(row, self.offers)):
+            return [-5]
+        return [0, sum(row), sum(place * offer[4] for place, offer in zip(row, self.offers))]
+
+    def call_17(self, k):
+        return [0, self.log[k - 1][0]] + self.log[k - 1][1] if k <= len(self.log) else [-4]
+
+    def call_18(self):
+        return [0, self.capacity_cost, sum(entry[1][2] for entry in self.log)]
+
+    def call_19(self):
+        rows = [number for offer in self.offers for number in offer]
+        return [0] + self.needs + [int(self.taken is not None)] + rows
 
 
 def random_calls(source, how_many, model):
@@ -214,27 +274,34 @@ def random_calls(source, how_many, model):
     return calls, told
 
 
+def random_offer(source):
+    return (OFFER, source.randint(0, 1), source.randint(1, 5), source.randint(0, 3), source.randint(-3, 3),
+            source.randint(1, 4), source.randint(0, 1))
+
+
 def random_call(source, k, model):
-    bought = model.needs is not None and model.taken is not None
     many = model.needs is not None and len(model.offers) >= 6
-    weights = [1, 0 if many else 20, 6, 6, 6, 4, 4, 4, 8, 3]
-    if bought:
-        weights = [1, 1, 1, 1, 1, 3, 4, 4, 4, 12]
-    kind = OPEN if k == 0 and source.random() < 0.95 else source.choices(range(10), weights)[0]
-    if kind == VALUE:
-        return (kind, wrong_at_times(source, source.randint(0, 1), kind, 0), random_row(source, model))
+    weights = [1, 0 if many else 20, 6, 6, 6, 4, 4, 4, 8, 3] + [1] * 9 + [5]
+    if model.taken is not None:
+        weights = [1, 1, 1, 1, 1, 2, 4, 4, 4, 20, 6, 12, 14, 10, 6, 8, 10, 8, 6, 4]
+    kind = OPEN if k == 0 and source.random() < 0.95 else source.choices(range(20), weights)[0]
     plain = {
         OPEN: lambda: [source.randint(0, 9), source.randint(0, 9)],
-        OFFER: lambda: [source.randint(0, 1), source.randint(1, 5), source.randint(0, 3), source.randint(-3, 3),
-                        source.randint(1, 4), source.randint(0, 1)],
+        OFFER: lambda: list(random_offer(source)[1:]),
         WITHDRAW: lambda: [source.randint(0, 9)],
         NEED: lambda: [source.randint(0, 1), source.randint(0, 12)],
         TAKEN: lambda: [source.randint(0, 9)],
         BOUGHT: lambda: [source.randint(0, 1)],
+        VALUE: lambda: [source.randint(0, 1)],
         CALL: lambda: [source.randint(-14, 14)],
+        UNIT: lambda: [source.randint(0, 8)],
+        AVAIL: lambda: [source.randint(0, 8), source.choice((0, 1, 2, 3, 4, 5, 6))],
+        REACH: lambda: [source.choice((1, 2, 3, 4, 9))],
+        QUARTER: lambda: [source.randint(1, 12)],
     }
     numbers = plain[kind]() if kind in plain else []
-    return (kind, *[wrong_at_times(source, number, kind, at) for at, number in enumerate(numbers)])
+    call = [kind] + [wrong_at_times(source, number, kind, at) for at, number in enumerate(numbers)]
+    return (*call, random_row(source, kind, model)) if kind in ROWS else tuple(call)
 
 
 def wrong_at_times(source, number, kind, at):
@@ -244,12 +311,22 @@ def wrong_at_times(source, number, kind, at):
     return source.choice((least - 1, greatest + 1))
 
 
-def random_row(source, model):
-    if model.needs is None or source.random() < 0.2:
-        return [source.randint(0, 5) for k in range(source.choice((0, 1, 2, 3, 24, 25)))]
-    row = [source.choice((offer[2], offer[2], offer[2], 0, 2)) for offer in model.side(source.randint(0, 1))]
+def random_row(source, kind, model):
+    most, least, greatest = ROWS[kind]
+    if kind == FORESEE:
+        row = [source.randint(-14, 14) for k in range(source.choice((0, 1, 2, 5, 5, 96, 97)))]
+    elif model.needs is None or source.random() < 0.2:
+        row = [source.randint(0, 5) for k in range(source.choice((0, 1, 2, 3, 24, 25)))]
+    elif kind == VALUE:
+        row = [source.choice((offer[2], offer[2], offer[2], 0, 2)) for offer in model.side(source.randint(0, 1))]
+    elif model.taken is None:
+        row = [0 for offer in model.offers]
+    else:
+        row = [source.choice(model.ways(offer)) for offer in model.offers]
+        if row and source.random() < 0.3:
+            row[source.randrange(len(row))] += source.choice((-1, 1))
     if row and source.random() < 0.05:
-        row[source.randrange(len(row))] = source.choice((-1, 10 ** 9, 10 ** 9 + 1))
+        row[source.randrange(len(row))] = source.choice((least - 1, least, greatest, greatest + 1))
     return row
 
 
@@ -258,18 +335,39 @@ class AgainstTheModel(unittest.TestCase):
         seen = {}
         for seed in range(300):
             source = random.Random(seed)
-            calls, expected = random_calls(source, source.choice((5, 40, 60)), Model())
-            got = parted(answers(line(calls)))
+            calls, expected = random_calls(source, source.choice((5, 40, 60, 120)), Model())
+            flat = line(calls)
+            got = parted(answers(flat))
+            self.assertEqual(flat, line(calls))
             for k, call in enumerate(calls):
                 self.assertEqual(got[k], expected[k], (seed, k, calls[:k + 1]))
                 seen[call[0], expected[k][0]] = True
             self.assertEqual(len(got), len(calls))
+            self.assertEqual(parted(answers(flat)), got)
         # The lists are only worth something if they reach the answers.
-        reached = [(OPEN, 0), (OPEN, -1), (OFFER, 0), (OFFER, -1), (OFFER, -2), (OFFER, -3), (WITHDRAW, 0),
-                   (WITHDRAW, -3), (WITHDRAW, -4), (NEED, 0), (NEED, -1), (NEED, -3), (BUY, 0), (BUY, -3), (AGAIN, 0),
-                   (AGAIN, -3), (AGAIN, -4), (TAKEN, 0), (TAKEN, -3), (TAKEN, -4), (BOUGHT, 0), (BOUGHT, -3),
-                   (VALUE, 0), (VALUE, -1), (VALUE, -4), (VALUE, -5), (CALL, 0), (CALL, -1), (CALL, -3)]
+        kinds = range(20)
+        reached = [(kind, 0) for kind in kinds] + [(kind, -1) for kind in kinds if kind in RANGES or kind in ROWS]
+        reached += [(kind, -3) for kind in BEFORE + AFTER]
+        reached += [(kind, -4) for kind in (WITHDRAW, AGAIN, TAKEN, VALUE, FORESEE, UNIT, AVAIL, TRY, QUARTER)]
+        reached += [(kind, -5) for kind in (VALUE, AVAIL, TRY)]
         self.assertEqual([pair for pair in reached if pair not in seen], [])
+
+    def test_long_lists(self):
+        """400 calls, few of them open and none of them undone: many quarters, with avail in between."""
+        for seed in range(12):
+            source = random.Random(1000 + seed)
+            model = Model()
+            calls = [(OPEN, 9, 9)] + [random_offer(source) for k in range(6)] + [(BUY,)]
+            told = [model.answer(call) for call in calls]
+            while len(calls) < 400:
+                call = random_call(source, len(calls), model)
+                if call[0] not in (OPEN, AGAIN):
+                    calls.append(call)
+                    told.append(model.answer(call))
+            got = parted(answers(line(calls)))
+            for k, call in enumerate(calls):
+                self.assertEqual(got[k], told[k], (seed, k, call))
+            self.assertGreater(len(model.log), 40)
 
 
 class Undoing(unittest.TestCase):
